@@ -1,0 +1,1 @@
+"""Stairrows: numbers laid into rows that step down, and taken out again."""
