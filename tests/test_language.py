@@ -33,12 +33,24 @@ WORDS = """
 """.split()
 
 
+WALKED = ("zip", "enumerate", "reversed", "range")
+WALKERS = ("list", "tuple", "dict", "sorted", "sum", "any", "all", "enumerate", "zip", "min", "max")
+
+
 def files():
     return sorted(path for path in PACKAGE.rglob("*") if "__pycache__" not in path.parts)
 
 
 def trees():
     return [(path.name, ast.parse(path.read_text(encoding="utf-8"))) for path in files()]
+
+
+def parents(tree):
+    return {child: node for node in ast.walk(tree) for child in ast.iter_child_nodes(node)}
+
+
+def is_call_of(node, names):
+    return isinstance(node, ast.Call) and isinstance(node.func, ast.Name) and node.func.id in names
 
 
 class TextTest(unittest.TestCase):
@@ -116,6 +128,77 @@ class TreeTest(unittest.TestCase):
             for node in ast.walk(tree):
                 if isinstance(node, ast.Call) and isinstance(node.func, ast.Attribute):
                     self.assertIn(node.func.attr, METHODS + own, (name, node.lineno))
+
+    def test_comprehensions(self):
+        for name, tree in trees():
+            for node in ast.walk(tree):
+                if isinstance(node, ast.ListComp):
+                    self.assertEqual(len(node.generators), 1, (name, node.lineno))
+                    self.assertLessEqual(len(node.generators[0].ifs), 1, (name, node.lineno))
+
+    def test_is_stands_beside_none_true_and_false(self):
+        for name, tree in trees():
+            for node in ast.walk(tree):
+                if isinstance(node, ast.Compare):
+                    for sign, other in zip(node.ops, node.comparators):
+                        if isinstance(sign, (ast.Is, ast.IsNot)):
+                            self.assertIsInstance(other, ast.Constant, (name, node.lineno))
+                            self.assertIn(other.value, (None, True, False), (name, node.lineno))
+
+    def test_each_name_once_and_none_hidden(self):
+        for name, tree in trees():
+            top = [node.name for node in tree.body if hasattr(node, "name")]
+            top += [target.id for node in tree.body if isinstance(node, ast.Assign) for target in node.targets]
+            top += [alias.name for node in tree.body if isinstance(node, ast.ImportFrom) for alias in node.names]
+            self.assertEqual(len(top), len(set(top)), name)
+            for function in tree.body:
+                if isinstance(function, ast.FunctionDef):
+                    for node in ast.walk(function):
+                        if isinstance(node, ast.arg):
+                            self.assertNotIn(node.arg, top, (name, node.lineno))
+                        if isinstance(node, ast.Name) and isinstance(node.ctx, ast.Store):
+                            self.assertNotIn(node.id, top, (name, node.lineno))
+
+    def test_no_two_files_draw_from_one_another(self):
+        drawn = {}
+        for name, tree in trees():
+            modules = [node.module for node in tree.body if isinstance(node, ast.ImportFrom)]
+            drawn["stairrows." + name[:-3]] = modules
+        self.assertEqual(drawn["stairrows.__init__"], [])
+        while drawn:
+            free = [module for module, modules in drawn.items() if not any(other in drawn for other in modules)]
+            self.assertNotEqual(free, [], drawn)
+            for module in free:
+                del drawn[module]
+
+    def test_errors_of_python_are_taken_round_one_call(self):
+        for name, tree in trees():
+            for node in ast.walk(tree):
+                if isinstance(node, ast.Try):
+                    self.assertEqual([handler.type.id for handler in node.handlers], ["ValueError"], name)
+                    self.assertEqual(len(node.body), 1, (name, node.lineno))
+                    self.assertTrue(is_call_of(node.body[0].value, ("int",)), (name, node.lineno))
+                    self.assertEqual(node.finalbody, [], (name, node.lineno))
+
+    def test_what_is_walked_at_once(self):
+        for name, tree in trees():
+            above = parents(tree)
+            for node in ast.walk(tree):
+                if is_call_of(node, WALKED):
+                    outer = above[node]
+                    walked = isinstance(outer, (ast.For, ast.comprehension)) and outer.iter is node
+                    self.assertTrue(walked or is_call_of(outer, WALKERS), (name, node.lineno))
+                if is_call_of(node, ("set", "frozenset")):
+                    self.assertTrue(is_call_of(above[node], ("len", "sorted")), (name, node.lineno))
+
+    def test_numbers_and_texts(self):
+        for name, tree in trees():
+            for node in ast.walk(tree):
+                self.assertNotIsInstance(node, ast.Pow, name)
+                if isinstance(node, ast.Constant) and isinstance(node.value, str):
+                    self.assertNotIn("%", node.value, (name, node.lineno))
+                if isinstance(node, (ast.While, ast.For)):
+                    self.assertEqual(node.orelse, [], (name, node.lineno))
 
 
 if __name__ == "__main__":

@@ -3,34 +3,11 @@ from itertools import permutations
 
 from stairrows.laying import laid
 from stairrows.stairs import reading, turned
-from tests.samples import HUGE, counted_rows, counting_stairs, spread
+from tests.samples import HUGE, counted_rows, counting_stairs, exchanged, joined, spread
 
 
 def places(row):
     return [row.index(number) + 1 for number in range(1, len(row) + 1)]
-
-
-def exchanged(row):
-    """Every row that one exchange makes of a row."""
-    found = []
-    for k in range(len(row) - 1):
-        lesser, greater = sorted(row[k:k + 2])
-        beside = ([row[k - 1]] if k > 0 else []) + row[k + 2:k + 3]
-        if any(lesser < number < greater for number in beside):
-            found.append(row[:k] + [row[k + 1], row[k]] + row[k + 2:])
-    return found
-
-
-def joined(row):
-    """All rows that exchanges make of a row, itself too."""
-    found = {tuple(row)}
-    waiting = [row]
-    while waiting:
-        for other in exchanged(waiting.pop()):
-            if tuple(other) not in found:
-                found.add(tuple(other))
-                waiting.append(other)
-    return found
 
 
 class TurningTest(unittest.TestCase):
